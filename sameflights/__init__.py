@@ -1,0 +1,1 @@
+"""Aircraft that fly the same flights day after day."""
