@@ -1,7 +1,7 @@
 """The calls that change stations and flights: station, flight, cancel, retime."""
 
 from sameflights.refusals import DONE, NO_SUCH_FLIGHT, TABLE_FULL, THERE_ALREADY, VALUES_UNFIT
-from sameflights.schedule import Flight
+from sameflights.schedule import retimed
 
 MOST_STATIONS = 24
 MOST_FLIGHTS = 24
@@ -39,7 +39,6 @@ def cancel_flight(schedule, number):
 def retime_flight(schedule, number, dep):
     if number not in schedule.flights:
         return [NO_SUCH_FLIGHT]
-    old = schedule.flights[number]
-    schedule.flights[number] = Flight(number, old.src, old.dst, dep, old.block)
+    schedule.flights[number] = retimed(schedule.flights[number], dep)
     schedule.links = {}
     return [DONE]

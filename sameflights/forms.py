@@ -9,8 +9,16 @@ FLEET = 5
 GROUND = 6
 BUILD = 7
 NEXT_OF = 8
+ROTATION = 9
+ROTATIONS = 10
+SWAP = 11
+MERGE = 12
+SERVICE = 13
+AFTER = 14
+AT = 15
+BETTER = 16
 
-# A row for each place, told or yet to be written, so that its length says where the next call begins.
+# A row for each place; its length says where the next call begins.
 RANGES = (
     ((0, 17575), (0, 600), (0, 1)),
     ((1, 9999), (0, 17575), (0, 17575), (0, 1439), (1, 2880)),

@@ -2,6 +2,10 @@
 
 from sameflights.schedule import DAY, flights_from, flights_to, flown_stations, ready_minute, ready_time
 
+# At one minute aircraft get ready before others leave, so READY is the smaller one in the order.
+READY = 0
+LEAVES = 1
+
 
 def coming_less_leaving(schedule, station):
     return len(flights_to(schedule, station)) - len(flights_from(schedule, station))
@@ -13,6 +17,13 @@ def unbalanced_stations(schedule):
 
 def is_balanced(schedule):
     return len(unbalanced_stations(schedule)) == 0
+
+
+# The station's day in order. A moment is its minute, READY or LEAVES, and the flight's number.
+def moments(schedule, station):
+    ready = [(ready_minute(schedule, flight), READY, flight.number) for flight in flights_to(schedule, station)]
+    leaving = [(flight.dep, LEAVES, flight.number) for flight in flights_from(schedule, station)]
+    return sorted(ready + leaving)
 
 
 def leaving_minutes(schedule, station):
@@ -27,14 +38,17 @@ def count_up_to(minutes, last):
     return len([minute for minute in minutes if minute <= last])
 
 
-def lack(leaving, ready, minute):
-    return max(count_up_to(leaving, minute) - count_up_to(ready, minute), 0)
-
-
+# The lack is gone through moment by moment, as it is greatest behind one of the flights that leave.
 def overnight(schedule, station):
-    leaving = leaving_minutes(schedule, station)
-    ready = ready_minutes(schedule, station)
-    return max([lack(leaving, ready, minute) for minute in leaving], default=0)
+    lack = 0
+    greatest = 0
+    for moment in moments(schedule, station):
+        if moment[1] == READY:
+            lack -= 1
+        else:
+            lack += 1
+            greatest = max(greatest, lack)
+    return greatest
 
 
 def most_standing(schedule, station):
@@ -46,7 +60,12 @@ def most_standing(schedule, station):
     return max([night] + standing)
 
 
+# How many days' beginnings the flight is under way over.
+def under_way(schedule, flight):
+    return ready_time(schedule, flight) // DAY
+
+
 # Meant of balanced flights only.
 def fleet_size(schedule):
-    under_way = sum([ready_time(schedule, flight) // DAY for flight in schedule.flights.values()])
-    return under_way + sum([overnight(schedule, station) for station in flown_stations(schedule)])
+    flying = sum([under_way(schedule, flight) for flight in schedule.flights.values()])
+    return flying + sum([overnight(schedule, station) for station in flown_stations(schedule)])

@@ -1,10 +1,9 @@
-"""The calls balance, fleet, ground, build and next_of."""
+"""The calls balance, fleet, ground and better, for which links do not matter."""
 
+from sameflights.better import best_retiming
 from sameflights.ground import coming_less_leaving, fleet_size, is_balanced
 from sameflights.ground import most_standing, overnight, unbalanced_stations
-from sameflights.refusals import DONE, NO_SUCH_FLIGHT, UNBALANCED_OR_UNLINKED
-from sameflights.rotations import heads, link_days, link_wait
-from sameflights.rules import built_links
+from sameflights.refusals import DONE, UNBALANCED_OR_UNLINKED
 
 
 def tell_balance(schedule):
@@ -27,16 +26,7 @@ def tell_ground(schedule, station):
     return [DONE, overnight(schedule, station), most_standing(schedule, station)]
 
 
-def build_links(schedule, rule):
-    if not is_balanced(schedule) or len(schedule.flights) == 0:
+def tell_better(schedule, width):
+    if not is_balanced(schedule):
         return [UNBALANCED_OR_UNLINKED]
-    schedule.links = built_links(schedule, rule)
-    return [DONE, len(heads(schedule.links))]
-
-
-def tell_next(schedule, number):
-    if number not in schedule.flights:
-        return [NO_SUCH_FLIGHT]
-    if len(schedule.links) == 0:
-        return [UNBALANCED_OR_UNLINKED]
-    return [DONE, schedule.links[number], link_wait(schedule, number), link_days(schedule, number)]
+    return [DONE] + best_retiming(schedule, width)

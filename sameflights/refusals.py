@@ -1,7 +1,6 @@
 """The first number of an answer: DONE, or why the call is refused."""
 
 DONE = 0
-NOT_OF_FORM = -1
 OUT_OF_RANGE = -2
 NO_SUCH_FLIGHT = -4
 THERE_ALREADY = -5

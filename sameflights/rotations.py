@@ -3,13 +3,21 @@
 from sameflights.schedule import DAY, ready_time
 
 
+def wait_between(schedule, number, following):
+    return (schedule.flights[following].dep - ready_time(schedule, schedule.flights[number])) % DAY
+
+
+def days_between(schedule, number, following):
+    ready = ready_time(schedule, schedule.flights[number])
+    return (ready + wait_between(schedule, number, following)) // DAY
+
+
 def link_wait(schedule, number):
-    following = schedule.flights[schedule.links[number]]
-    return (following.dep - ready_time(schedule, schedule.flights[number])) % DAY
+    return wait_between(schedule, number, schedule.links[number])
 
 
 def link_days(schedule, number):
-    return (ready_time(schedule, schedule.flights[number]) + link_wait(schedule, number)) // DAY
+    return days_between(schedule, number, schedule.links[number])
 
 
 def rotation_from(links, number):
@@ -21,5 +29,14 @@ def rotation_from(links, number):
     return flown
 
 
+def rotation_days(schedule, flown):
+    return sum([link_days(schedule, number) for number in flown])
+
+
 def heads(links):
     return [number for number in sorted(links) if number == min(rotation_from(links, number))]
+
+
+# Each from its head on, by rising heads.
+def all_rotations(links):
+    return [rotation_from(links, head) for head in heads(links)]

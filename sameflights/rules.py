@@ -1,20 +1,9 @@
 """The two rules by which the links of balanced flights are built: first out and last out."""
 
-from sameflights.ground import overnight
-from sameflights.schedule import flights_from, flights_to, flown_stations, ready_minute
+from sameflights.ground import LEAVES, READY, moments, overnight
+from sameflights.schedule import flown_stations
 
 FIRST_OUT = 0
-
-# At one minute aircraft get ready before others leave, so READY is the smaller one in the order.
-READY = 0
-LEAVES = 1
-
-
-# The station's day in order. A moment is its minute, READY or LEAVES, and the flight's number.
-def moments(schedule, station):
-    ready = [(ready_minute(schedule, flight), READY, flight.number) for flight in flights_to(schedule, station)]
-    leaving = [(flight.dep, LEAVES, flight.number) for flight in flights_from(schedule, station)]
-    return sorted(ready + leaving)
 
 
 # Pairs of a flight that comes and the one that its aircraft flies next.

@@ -21,6 +21,10 @@ class Schedule:
         self.links = {}
 
 
+def retimed(flight, dep):
+    return Flight(flight.number, flight.src, flight.dst, dep, flight.block)
+
+
 # Counted on from the beginning of the day on which the flight leaves, so it may be more than a day.
 def ready_time(schedule, flight):
     return flight.dep + flight.block + schedule.turns.get(flight.dst, 0)

@@ -25,6 +25,23 @@ RANGES = {
 }
 PLACES = {name: place for place, name in enumerate(RANGES)}
 
+FIRST_OUT = 0
+LAST_OUT = 1
+
+# At 20 flight 1 is ready at 400 and 2 at 410, 11 and 12 leave at 700 and 800. At 10 flight 12 is ready at 900 and
+# 11 at 1000, and they stand there overnight: 1 and 2 leave at 300 and 310.
+# First out the rotation is 1, 11, 2, 12, last out 1, 12, 2, 11; it takes two days.
+FOUR = [("flight", 12, 20, 10, 800, 100), ("flight", 2, 10, 20, 310, 100),
+        ("flight", 11, 20, 10, 700, 300), ("flight", 1, 10, 20, 300, 100)]
+
+# Two flights at other stations, which make a rotation of one day by themselves.
+APART = [("flight", 8, 40, 30, 100, 10), ("flight", 7, 30, 40, 0, 10)]
+
+# What tells of the whole plan, to see that a call changed nothing.
+ALL_TOLD = [("balance",), ("fleet",), ("ground", 10), ("ground", 20), ("rotations",), ("rotation", 1),
+            ("rotation", 2), ("next_of", 1), ("next_of", 2), ("service", 0, 1000000), ("after", 1, 77),
+            ("at", 1, 77, 777), ("better", 60)]
+
 
 def cut(answered):
     """The answers, each without the count before it."""
@@ -50,6 +67,15 @@ def ask(*calls):
     if len(apart) != len(calls):
         raise AssertionError("%d answers to %d calls" % (len(apart), len(calls)))
     return apart
+
+
+def nexts(*numbers):
+    return [("next_of", number) for number in numbers]
+
+
+def following(answered):
+    """What is told first, behind the 0, in each answer."""
+    return [answer[1] for answer in answered]
 
 
 def ask_behind(before, *calls):

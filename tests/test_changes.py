@@ -2,9 +2,7 @@
 
 import unittest
 
-from sameflights.plan import answer_call
-from sameflights.schedule import Schedule
-from tests.helper import PLACES, ask, ask_behind
+from tests.helper import ask, ask_behind
 
 # Out at 480, ready at 610; back at 700, ready at 825.
 PAIR = [("station", 10, 30, 0), ("station", 20, 40, 1),
@@ -41,12 +39,14 @@ class Station(unittest.TestCase):
         self.assertEqual(answered, [[0, 1], [0, 2, 130, 0], [0, 1, 1125, 1]])
 
     def test_its_hangar_is_told_and_told_once_more(self):
-        # No call that answers by hangars is written yet, so what is kept is looked at.
-        schedule = Schedule()
-        for turn, hangar in ((600, 1), (30, 0), (0, 1)):
-            self.assertEqual(answer_call(schedule, PLACES["station"], [20, turn, hangar]), [0])
-            self.assertEqual(schedule.turns, {20: turn})
-            self.assertEqual(schedule.hangars, {20: hangar})
+        served = [("build", 0), ("service", 0, 1000)]
+        self.assertEqual(ask_behind(PAIR, *served), [[0, 1], [0, 1, 1, 1, 185]])
+        answered = ask_behind(PAIR, ("station", 20, 40, 0), *served, ("station", 10, 0, 1), ("station", 20, 0, 1),
+                              *served)
+        self.assertEqual(answered, [[0], [0, 1], [0, 0, 1, 0, 0], [0], [0], [0, 1], [0, 1, 1, 2, 95]])
+
+    def test_a_station_of_which_nothing_was_told_has_no_hangar(self):
+        self.assertEqual(ask_behind(PAIR[2:], ("build", 0), ("service", 0, 1000)), [[0, 1], [0, 0, 1, 0, 0]])
 
     def test_the_twenty_fourth_and_the_twenty_fifth(self):
         self.assertEqual(ask(*told(26)), [[0]] * 24 + [[-6]] * 2)

@@ -2,29 +2,13 @@
 
 import unittest
 
-from tests.helper import ask, ask_behind
-
-FIRST_OUT = 0
-LAST_OUT = 1
+from tests.helper import FIRST_OUT, FOUR, LAST_OUT, ask, ask_behind, following, nexts
 
 PAIR = [("flight", 1, 10, 20, 480, 90), ("flight", 2, 20, 10, 700, 95)]
-
-# At 20 flight 1 is ready at 400 and 2 at 410, 11 and 12 leave at 700 and 800. At 10 flight 12 is ready at 900 and
-# 11 at 1000, and they stand there overnight: 1 and 2 leave at 300 and 310.
-FOUR = [("flight", 12, 20, 10, 800, 100), ("flight", 2, 10, 20, 310, 100),
-        ("flight", 11, 20, 10, 700, 300), ("flight", 1, 10, 20, 300, 100)]
 
 # At 10 flights 30 and 9 get ready at 600 and 40 and 8 leave at 700; at 20 it is the other way round, at 750 and at 500.
 AT_ONCE = [("flight", 30, 20, 10, 500, 100), ("flight", 9, 20, 10, 500, 100),
            ("flight", 40, 10, 20, 700, 50), ("flight", 8, 10, 20, 700, 50)]
-
-
-def nexts(*numbers):
-    return [("next_of", number) for number in numbers]
-
-
-def following(answered):
-    return [answer[1] for answer in answered]
 
 
 class Build(unittest.TestCase):
